@@ -1,0 +1,1 @@
+"""Tales told out of order, their timelines, and what listeners know."""

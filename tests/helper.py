@@ -1,0 +1,231 @@
+"""Tales for the tests, and a plain closing of all relations to hold results against.
+
+Nothing here uses the package.
+"""
+
+import itertools
+import random
+import time
+
+WORDS = ("at", "then", "back", "later", "earlier", "with")
+NAMES = ("b", "a", "ab", "z", "aa", "ba", "c")
+
+# Values of every kind of "anything" that are neither tuples, lists nor moments.
+PLAIN_VALUES = (None, True, False, 0, 1, -3, "", "A", "a1", "abcdefghi", " a", "a\n")
+# The like that are tuples or lists.
+NESTED_VALUES = ((), [], ("a",), ["a"], (("a",),), [["a"]], (None, [1, ("at", "a")]), ["at", "a"])
+ANYTHING = PLAIN_VALUES + NESTED_VALUES
+
+# One tale for each kind of problem.
+BAD_TALES = (
+    (None, ("form",)),
+    ([("at", "a")], ("form",)),
+    ((("then", "a"),), ("sentence", 0)),
+    ((("at", "a"), ("then", "B")), ("sentence", 1)),
+    ((("at", "a"), ("then", "b"), ("then", "a")), ("cycle", 2)),
+)
+
+
+def plain_closing(tale):
+    """(same, before): sets of pairs of moments, closed by trying all pairs until nothing is new."""
+    same, before = {(moment, moment) for _, moment in tale}, set()
+    stand = None
+    for word, moment in tale:
+        if word == "with":
+            same |= {(stand, moment), (moment, stand)}
+        elif word in ("then", "later"):
+            before.add((stand, moment))
+        elif word in ("back", "earlier"):
+            before.add((moment, stand))
+        if word in ("at", "then", "back"):
+            stand = moment
+    while True:
+        more_same = chained(same, same) | same
+        more_before = chained(before, before | same) | chained(same, before) | before
+        if more_same == same and more_before == before:
+            return same, before
+        same, before = more_same, more_before
+
+
+def chained(ones, others):
+    """The pairs that a pair of ones and then a pair of others lead over."""
+    return {(a, d) for a, b in ones for c, d in others if b == c}
+
+
+def plain_consistent(tale):
+    return not any(a == b for a, b in plain_closing(tale)[1])
+
+
+def plain_cycle(tale):
+    """The index of the first sentence with which the tale is inconsistent, or None."""
+    for k in range(len(tale)):
+        if not plain_consistent(tale[:k + 1]):
+            return k
+    return None
+
+
+def plain_moments(tale):
+    return sorted({moment for _, moment in tale})
+
+
+def plain_groups(tale):
+    same, _ = plain_closing(tale)
+    return sorted({tuple(sorted(b for c, b in same if c == a)) for a in plain_moments(tale)})
+
+
+def plain_precedence(tale):
+    """The set of all pairs of groups (G, H) with G before H."""
+    _, before = plain_closing(tale)
+    found = plain_groups(tale)
+    return {(g, h) for g in found for h in found if (g[0], h[0]) in before}
+
+
+def plain_covers(tale):
+    pairs = plain_precedence(tale)
+    return sorted(pairs - chained(pairs, pairs))
+
+
+def plain_components(tale):
+    """The components, by spreading from each group over covers in both directions."""
+    pairs = plain_covers(tale)
+    left, found = plain_groups(tale), []
+    while left:
+        part = {left[0]}
+        while True:
+            more = {h for g, h in pairs if g in part} | {g for g, h in pairs if h in part} | part
+            if more == part:
+                break
+            part = more
+        found.append(sorted(part))
+        left = [group for group in left if group not in part]
+    return found
+
+
+def plain_relation(tale, a, b):
+    same, before = plain_closing(tale)
+    for pairs, name in ((same, "same"), (before, "before")):
+        if (a, b) in pairs:
+            return name
+    return "after" if (b, a) in before else "unknown"
+
+
+def plain_timelines(tale):
+    """All timelines of a small tale in ascending order."""
+    pairs = plain_precedence(tale)
+    return [
+        line for line in itertools.permutations(plain_groups(tale))
+        if not any((later, earlier) in pairs for earlier, later in itertools.combinations(line, 2))
+    ]
+
+
+def plain_check_timeline(tale, thing):
+    """What check_timeline must return, read off the document line by line."""
+    if not isinstance(thing, tuple):
+        return ("form",)
+    found = plain_groups(tale)
+    for i, item in enumerate(thing):
+        if item not in found or item in thing[:i]:
+            return ("group", i)
+    for group in found:
+        if group not in thing:
+            return ("missing", group)
+    for g, h in plain_covers(tale):
+        if thing.index(h) < thing.index(g):
+            return ("order", g, h)
+    return None
+
+
+def drawn_sentences(source, length, names):
+    """A tuple of sentences that begins with "at", consistent or not."""
+    words = ["at"] + [source.choice(WORDS) for _ in range(length - 1)]
+    return tuple((word, source.choice(names)) for word in words)
+
+
+def drawn_any(seed, many, longest, names=NAMES):
+    """Drawn tuples of sentences, most of them inconsistent if they are long."""
+    source = random.Random(seed)
+    return [drawn_sentences(source, source.randint(1, longest), names) for _ in range(many)]
+
+
+def drawn_tales(seed, many, longest, names=NAMES):
+    """Drawn consistent tales: a sentence that would close a cycle is left out."""
+    tales = [()]
+    for drawn in drawn_any(seed, many, longest, names):
+        tale = ()
+        for sentence in drawn:
+            if plain_consistent(tale + (sentence,)):
+                tale += (sentence,)
+        tales.append(tale)
+    return tales
+
+
+def all_tales(length, names):
+    """All tuples of that many sentences over the names that begin with "at"."""
+    sentences = list(itertools.product(WORDS, names))
+    firsts = [("at", name) for name in names]
+    return itertools.product(firsts, *[sentences] * (length - 1))
+
+
+def many_names(many):
+    """That many different moments, ascending: "maa", "mab" and so on."""
+    letters = "abcdefghijklmnopqrstuvwxyz"
+    return ["m" + letters[k // 26] + letters[k % 26] for k in range(many)]
+
+
+def chain(word, names):
+    """The tale that walks over the names by one word."""
+    return (("at", names[0]),) + tuple((word, name) for name in names[1:])
+
+
+def layers(rows):
+    """The tale in which every moment of a row is before every moment of the next row."""
+    told = []
+    for row, following in zip(rows, rows[1:]):
+        for moment in row:
+            told.append(("at", moment))
+            told.extend(("later", other) for other in following)
+    return tuple(told)
+
+
+def padded(tale, length):
+    """The tale with sentences that add no relation, up to that length."""
+    return tale + (tale[0],) * (length - len(tale))
+
+
+def limit_tales():
+    """Tales of 200 sentences and 60 moments (or as many as their form allows), by name."""
+    names = many_names(60)
+    row = [names[k:k + 6] for k in range(0, 30, 6)]
+    rings = layers(row) + tuple(("at", name) for name in names[30:])
+    source = random.Random(60)
+    drawn = [("at", names[0])]
+    while len(drawn) < 200:
+        one, other = sorted(source.sample(range(60), 2))
+        drawn.extend([("at", names[one]), ("later", names[other])])
+    return {
+        "forward": padded(chain("then", names), 200),
+        "backward": padded(chain("back", names), 200),
+        "rewound": chain("then", names) * 3 + chain("then", names[:20]),
+        "mentions": padded(chain("later", names), 200),
+        "together": padded(chain("with", names), 200),
+        "apart": padded(chain("at", names), 200),
+        "layers": padded(rings, 200),
+        "drawn": tuple(drawn[:200]),
+    }
+
+
+def assert_quick(case, call, *arguments):
+    """The result of the call, which must come within a few seconds."""
+    start = time.perf_counter()
+    result = call(*arguments)
+    case.assertLess(time.perf_counter() - start, 3.0)
+    return result
+
+
+def assert_raises(case, error, field, value, call, *arguments):
+    """The call raises exactly this error, whose field equals the value and has its kind."""
+    with case.assertRaises(error) as caught:
+        call(*arguments)
+    case.assertIs(type(caught.exception), error)
+    told = getattr(caught.exception, field)
+    case.assertEqual((type(told), told), (type(value), value))

@@ -1,7 +1,7 @@
 """Orders: groups, covers, components, relations, and the least timeline."""
 
-from backthen.errors import UnknownMoment
-from backthen.precedence import Order, joined
+from backthen.errors import InvalidTimeline, UnknownMoment
+from backthen.precedence import Order
 from backthen.tales import require_tale
 
 
@@ -32,12 +32,13 @@ def covers(tale):
 
 def components(tale):
     """The components, each the ascending list of its groups, by their first groups."""
-    return [list(part) for part in joined(groups(tale), covers(tale))]
+    order = tale_order(tale)
+    return [[order.groups[number] for number in part] for part in order.component_numbers()]
 
 
 def cycle_rank(tale):
     """The number of covers, less the groups, plus the components."""
-    return len(covers(tale)) - len(groups(tale)) + len(components(tale))
+    return tale_order(tale).cycle_rank()
 
 
 def relation(tale, a, b):
@@ -78,3 +79,10 @@ def check_timeline(tale, thing):
         if places[other] < places[one]:
             return ("order", order.groups[one], order.groups[other])
     return None
+
+
+def require_timeline(tale, timeline):
+    """Raise InvalidTimeline if timeline is not a timeline of the tale."""
+    problem = check_timeline(tale, timeline)
+    if problem is not None:
+        raise InvalidTimeline(problem)

@@ -19,20 +19,23 @@ def tale_stands(tale):
     return stands
 
 
-def tale_links(tale):
-    """The relations of the sentences: tuples (first, second, strict).
+def sentence_link(stand, word, moment):
+    """The relation of a sentence: a tuple (first, second, strict), None if it has none.
 
     If strict is True, first is before second, otherwise they are at the same time.
     """
-    links = []
-    for stand, (word, moment) in zip([None] + tale_stands(tale), tale):
-        if word == "with":
-            links.append((stand, moment, False))
-        elif word in FORWARD_WORDS:
-            links.append((stand, moment, True))
-        elif word in BACKWARD_WORDS:
-            links.append((moment, stand, True))
-    return links
+    if word == "with":
+        return (stand, moment, False)
+    if word in FORWARD_WORDS:
+        return (stand, moment, True)
+    if word in BACKWARD_WORDS:
+        return (moment, stand, True)
+    return None
+
+
+def tale_links(tale):
+    """The relation of each sentence of the tale."""
+    return [sentence_link(stand, *sentence) for stand, sentence in zip([None] + tale_stands(tale), tale)]
 
 
 def joined(things, pairs):
@@ -61,7 +64,7 @@ class Order:
     """The groups of a tale, and which of them precede which."""
 
     def __init__(self, tale):
-        links = tale_links(tale)
+        links = [link for link in tale_links(tale) if link is not None]
         same = [(first, second) for first, second, strict in links if not strict]
         self.groups = joined([moment for _, moment in tale], same)
         self.number = {moment: k for k, group in enumerate(self.groups) for moment in group}
@@ -74,6 +77,10 @@ class Order:
     def precedes(self, one, other):
         """Whether group number one precedes group number other."""
         return self.after[one] >> other & 1 == 1
+
+    def unrelated(self, one, other):
+        """Whether neither of the two different groups precedes the other."""
+        return not self.precedes(one, other) and not self.precedes(other, one)
 
     def is_consistent(self):
         """Whether no group precedes itself."""
@@ -101,15 +108,31 @@ class Order:
             pairs.extend([(number, k) for k in later if not beyond >> k & 1])
         return pairs
 
+    def component_numbers(self):
+        """The components, each the ascending tuple of the numbers of its groups."""
+        return joined(list(range(len(self.groups))), self.cover_numbers())
+
+    def cycle_rank(self):
+        """The number of covers, less the groups, plus the components."""
+        return len(self.cover_numbers()) - len(self.groups) + len(self.component_numbers())
+
+    def next_numbers(self, front):
+        """The ascending numbers of all groups that can stand next behind those of a front.
+
+        A front is a set of groups that holds all groups that precede one of them.
+        """
+        barred = front
+        for number, later in enumerate(self.after):
+            if not front >> number & 1:
+                barred |= later
+        return [k for k in range(len(self.groups)) if not barred >> k & 1]
+
     def first_numbers(self):
         """The numbers of all groups in the order of the least timeline of a consistent tale."""
         numbers = []
-        left = list(range(len(self.groups)))
-        while left:
-            blocked = 0
-            for k in left:
-                blocked |= self.after[k]
-            least = min([k for k in left if not blocked >> k & 1])
-            left.remove(least)
+        front = 0
+        for _ in self.groups:
+            least = self.next_numbers(front)[0]
             numbers.append(least)
+            front |= 1 << least
         return numbers

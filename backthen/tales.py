@@ -8,6 +8,11 @@ LETTERS = "abcdefghijklmnopqrstuvwxyz"
 LONGEST_NAME = 8
 
 
+def is_integer(thing):
+    """Whether thing is an integer: True and False are none."""
+    return isinstance(thing, int) and not isinstance(thing, bool)
+
+
 def is_name(thing):
     """Whether thing is a string of one to eight letters from a to z."""
     if not isinstance(thing, str) or not 1 <= len(thing) <= LONGEST_NAME:

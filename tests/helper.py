@@ -3,6 +3,7 @@
 Nothing here uses the package.
 """
 
+import fractions
 import itertools
 import random
 import time
@@ -26,19 +27,28 @@ BAD_TALES = (
 )
 
 
+def plain_links(tale):
+    """For each sentence (first, second, strict), or None if it has no relation."""
+    links, stand = [], None
+    for word, moment in tale:
+        links.append({
+            "at": None, "with": (stand, moment, False),
+            "then": (stand, moment, True), "later": (stand, moment, True),
+            "back": (moment, stand, True), "earlier": (moment, stand, True),
+        }[word])
+        if word in ("at", "then", "back"):
+            stand = moment
+    return links
+
+
 def plain_closing(tale):
     """(same, before): sets of pairs of moments, closed by trying all pairs until nothing is new."""
     same, before = {(moment, moment) for _, moment in tale}, set()
-    stand = None
-    for word, moment in tale:
-        if word == "with":
-            same |= {(stand, moment), (moment, stand)}
-        elif word in ("then", "later"):
-            before.add((stand, moment))
-        elif word in ("back", "earlier"):
-            before.add((moment, stand))
-        if word in ("at", "then", "back"):
-            stand = moment
+    for link in plain_links(tale):
+        if link is not None and link[2]:
+            before.add(link[:2])
+        elif link is not None:
+            same |= {link[:2], link[1::-1]}
     while True:
         more_same = chained(same, same) | same
         more_before = chained(before, before | same) | chained(same, before) | before
@@ -118,6 +128,21 @@ def plain_timelines(tale):
     ]
 
 
+def plain_arrangements(tale):
+    """All tuples of all groups of a small tale, each a dict from the group to its index."""
+    lines = itertools.permutations(plain_groups(tale))
+    return [{group: i for i, group in enumerate(line)} for line in lines]
+
+
+def plain_group(tale, moment):
+    return next(group for group in plain_groups(tale) if moment in group)
+
+
+def plain_fraction(numerator, denominator):
+    found = fractions.Fraction(numerator, denominator)
+    return (found.numerator, found.denominator)
+
+
 def plain_check_timeline(tale, thing):
     """What check_timeline must return, read off the document line by line."""
     if not isinstance(thing, tuple):
@@ -159,6 +184,34 @@ def drawn_tales(seed, many, longest, names=NAMES):
     return tales
 
 
+def drawn_forest(source, many, words=("later", "earlier")):
+    """A forest tale of that many moments: each is linked to one ahead of it, or is told by "at"."""
+    names = many_names(many)
+    source.shuffle(names)
+    tale = (("at", names[0]),)
+    for k in range(1, many):
+        if source.random() < 0.15:
+            tale += (("at", names[k]),)
+        else:
+            tale += (("at", names[source.randrange(max(0, k - 6), k)]), (source.choice(words), names[k]))
+    return tale
+
+
+def drawn_pairs(source, names, many):
+    """A tale that says of that many drawn pairs of the names that the lesser one is first."""
+    tale = tuple(("at", name) for name in names)
+    for _ in range(many):
+        one, other = sorted(source.sample(names, 2))
+        tale += (("at", one), ("later", other))
+    return tale
+
+
+def drawn_forests(seed, sizes, words=("later", "earlier")):
+    """Drawn forest tales, one for each number of moments."""
+    source = random.Random(seed)
+    return [drawn_forest(source, many, words) for many in sizes]
+
+
 def all_tales(length, names):
     """All tuples of that many sentences over the names that begin with "at"."""
     sentences = list(itertools.product(WORDS, names))
@@ -185,6 +238,17 @@ def layers(rows):
             told.append(("at", moment))
             told.extend(("later", other) for other in following)
     return tuple(told)
+
+
+def zigzag(names):
+    """The forest tale of one path that goes forward and back in turns."""
+    return (("at", names[0]),) + tuple((("back", "then")[k % 2], names[k]) for k in range(1, len(names)))
+
+
+def crown(names):
+    """A tale with a cycle of covers: a before c and d, b before c and d, and more unrelated moments."""
+    told = layers([names[:2], names[2:4]])
+    return told + tuple(("at", name) for name in names[4:])
 
 
 def padded(tale, length):

@@ -4,7 +4,7 @@ import copy
 import inspect
 import unittest
 
-from backthen import errors, orders, tales
+from backthen import counts, errors, evidence, orders, ranking, tales
 from tests.helper import ANYTHING, BAD_TALES, assert_raises
 
 TALE = (("at", "b"), ("with", "a"), ("then", "c"), ("at", "d"))
@@ -23,12 +23,28 @@ FUNCTIONS = {
     orders.relation: {"tale": TALE, "a": "a", "b": "d"},
     orders.first_timeline: {"tale": TALE},
     orders.check_timeline: {"tale": TALE, "thing": (("c",), ["a"])},
+    evidence.explain_relation: {"tale": TALE, "a": "a", "b": "d"},
+    evidence.check_explanation: {"tale": TALE, "a": "a", "b": "c", "thing": ("before", (1, 2, ["a"]))},
+    counts.count_timelines: {"tale": TALE},
+    counts.place_counts: {"tale": TALE, "a": "c"},
+    counts.mean_place: {"tale": TALE, "a": "c"},
+    counts.share: {"tale": TALE, "a": "c", "b": "d"},
+    counts.share_terms: {"tale": TALE, "a": "c", "b": "d"},
+    counts.check_share_terms: {"tale": TALE, "a": "c", "b": "d", "thing": (([], 1),)},
+    ranking.nth_timeline: {"tale": TALE, "k": 1},
+    ranking.timeline_rank: {"tale": TALE, "timeline": (("a", "b"), ("c",), ("d",))},
+    ranking.middle_pair: {"tale": TALE},
 }
 FILES = {
     "backthen.tales": ("check_tale", "parse_tale", "format_tale", "stands", "moments"),
     "backthen.orders": (
         "groups", "covers", "components", "cycle_rank", "relation", "first_timeline", "check_timeline",
     ),
+    "backthen.evidence": ("explain_relation", "check_explanation"),
+    "backthen.counts": (
+        "count_timelines", "place_counts", "mean_place", "share", "share_terms", "check_share_terms",
+    ),
+    "backthen.ranking": ("nth_timeline", "timeline_rank", "middle_pair"),
 }
 
 
@@ -72,6 +88,9 @@ class InterfaceTests(unittest.TestCase):
             tales.check_tale((("then", "a"),)),
             tales.check_tale((("at", "a"), ("then", "a"))),
             orders.check_timeline(TALE, (None,)),
+            evidence.check_explanation(TALE, "a", "b", ("same", (0,))),
+            evidence.check_explanation(TALE, "a", "d", ("unknown", (), ())),
+            counts.check_share_terms(TALE, "a", "c", ((None, 1),)),
         ):
             self.assertIs(type(problem[1]), int)
 

@@ -1,10 +1,14 @@
 """Point 4: within the limits every call returns within a few seconds, with the right result."""
 
+import math
+import random
 import unittest
 
-from backthen import orders, tales
+from backthen import counts, evidence, orders, ranking, tales
 from backthen.errors import InvalidText
-from tests.helper import assert_quick, assert_raises, chain, limit_tales, many_names, padded
+from tests.helper import (
+    assert_quick, assert_raises, chain, drawn_forests, drawn_pairs, layers, limit_tales, many_names, padded, zigzag,
+)
 
 NAMES = many_names(60)
 SINGLES = [(name,) for name in NAMES]
@@ -78,6 +82,70 @@ class LimitTests(unittest.TestCase):
         self.assertEqual(len(assert_quick(self, tales.parse_tale, lines)), 200)
         lines[299] = "at" + "a" * 58
         assert_raises(self, InvalidText, "line", 300, tales.parse_tale, lines)
+
+    def test_evidence(self):
+        for name, tale in limit_tales().items():
+            for a, b in ((NAMES[0], NAMES[59]), (NAMES[59], NAMES[0]), (NAMES[0], NAMES[29]), (NAMES[30], NAMES[31])):
+                with self.subTest(name, a=a, b=b):
+                    found = assert_quick(self, evidence.explain_relation, tale, a, b)
+                    self.assertEqual(found[0], orders.relation(tale, a, b))
+                    self.assertIsNone(assert_quick(self, evidence.check_explanation, tale, a, b, found))
+
+    def test_long_evidence(self):
+        told = limit_tales()
+        steps = tuple(range(1, 60))
+        self.assertEqual(evidence.explain_relation(told["rewound"], NAMES[0], NAMES[59]), ("before", steps))
+        self.assertEqual(evidence.explain_relation(told["backward"], NAMES[0], NAMES[59]), ("after", steps[::-1]))
+        self.assertEqual(evidence.explain_relation(told["together"], NAMES[7], NAMES[9]), ("same", (7, 9)))
+        swapped = (*SINGLES[:30], *SINGLES[31:], SINGLES[30])
+        found = evidence.explain_relation(told["apart"], NAMES[30], NAMES[59])
+        self.assertEqual(found, ("unknown", tuple(SINGLES), swapped))
+        thing = ("same", (7,) * 499 + (9,))
+        self.assertIsNone(assert_quick(self, evidence.check_explanation, told["together"], NAMES[7], NAMES[9], thing))
+
+    def check_counts(self, tale):
+        """All functions of point 8 come quickly, and fit together."""
+        total = assert_quick(self, counts.count_timelines, tale)
+        for a, b in ((NAMES[0], NAMES[11]), (NAMES[11], NAMES[0]), (NAMES[5], NAMES[6])):
+            row = assert_quick(self, counts.place_counts, tale, a)
+            self.assertEqual(sum(row), total)
+            assert_quick(self, counts.mean_place, tale, a)
+            n, of = assert_quick(self, counts.share, tale, a, b)
+            back, _ = counts.share(tale, b, a)
+            self.assertEqual(n + back, of)
+        return total
+
+    def test_counts_of_twelve_groups(self):
+        source = random.Random(127)
+        tales = [chain("at", NAMES[:12]), layers([NAMES[:6], NAMES[6:12]]), zigzag(NAMES[:12])]
+        for tale in tales + [drawn_pairs(source, NAMES[:12], many) for many in (6, 12, 94)]:
+            tale = padded(tale, 200)
+            total = self.check_counts(tale)
+            self.check_ranks(tale, total)
+            assert_quick(self, ranking.middle_pair, tale)
+
+    def test_counts_of_sixty_groups(self):
+        tales = [chain(word, NAMES) for word in ("at", "then", "later", "earlier")] + [zigzag(NAMES)]
+        for tale in tales + drawn_forests(131, (60, 60)):
+            tale = padded(tale, 200)
+            self.check_counts(tale)
+            for a, b in ((NAMES[0], NAMES[59]), (NAMES[59], NAMES[0])):
+                terms = assert_quick(self, counts.share_terms, tale, a, b)
+                self.assertIsNone(assert_quick(self, counts.check_share_terms, tale, a, b, terms))
+        self.assertEqual(len(counts.share_terms(chain("then", NAMES), NAMES[0], NAMES[59])), 59)
+        self.assertEqual(counts.count_timelines(padded(chain("at", NAMES), 200)), math.factorial(60))
+
+    def check_ranks(self, tale, total):
+        """The ends and the middle of all timelines come quickly, with their ranks."""
+        for k in (0, total // 2, total - 1):
+            line = assert_quick(self, ranking.nth_timeline, tale, k)
+            self.assertEqual(assert_quick(self, ranking.timeline_rank, tale, line), k)
+
+    def test_ranks_of_forty_groups(self):
+        tales = [chain(word, NAMES[:40]) for word in ("at", "then", "later", "earlier")] + [zigzag(NAMES[:40])]
+        for tale in tales + drawn_forests(137, (40, 40)):
+            tale = padded(tale, 200)
+            self.check_ranks(tale, counts.count_timelines(tale))
 
 
 if __name__ == "__main__":

@@ -9,7 +9,7 @@ from math import comb, gcd
 from backthen.errors import NotForest, TooLarge
 from backthen.orders import moment_number, tale_order
 from backthen.precedence import joined
-from backthen.tales import is_integer
+from backthen.tales import is_integer, is_pair
 
 MOST_GROUPS = 12
 MOST_FOREST_GROUPS = 60
@@ -228,11 +228,6 @@ def share_terms(tale, a, b):
         cover = None if pair is None else (order.groups[pair[0]], order.groups[pair[1]])
         terms.append((cover, count))
     return tuple(terms)
-
-
-def is_pair(thing):
-    """Whether thing is a tuple of two."""
-    return isinstance(thing, tuple) and len(thing) == 2
 
 
 def check_share_terms(tale, a, b, thing):

@@ -116,6 +116,15 @@ class Order:
         """The number of covers, less the groups, plus the components."""
         return len(self.cover_numbers()) - len(self.groups) + len(self.component_numbers())
 
+    def forced_numbers(self):
+        """The ascending numbers of all groups that are isolated or have several moments."""
+        covered = [k for pair in self.cover_numbers() for k in pair]
+        return [k for k, group in enumerate(self.groups) if len(group) > 1 or k not in covered]
+
+    def before_pairs(self, moments):
+        """The ascending pairs (a, b) of the ascending moments such that a is before b."""
+        return [(a, b) for a in moments for b in moments if self.precedes(self.number[a], self.number[b])]
+
     def next_numbers(self, front):
         """The ascending numbers of all groups that can stand next behind those of a front.
 

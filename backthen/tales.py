@@ -20,11 +20,14 @@ def is_name(thing):
     return all([letter in LETTERS for letter in thing])
 
 
+def is_pair(thing):
+    """Whether thing is a tuple of two."""
+    return isinstance(thing, tuple) and len(thing) == 2
+
+
 def is_sentence(thing):
     """Whether thing is a tuple of one of the six words and a moment."""
-    if not isinstance(thing, tuple) or len(thing) != 2:
-        return False
-    return thing[0] in WORDS and is_name(thing[1])
+    return is_pair(thing) and thing[0] in WORDS and is_name(thing[1])
 
 
 def closing_index(tale):

@@ -26,6 +26,16 @@ BAD_TALES = (
     ((("at", "a"), ("then", "b"), ("then", "a")), ("cycle", 2)),
 )
 
+# One report for each kind of problem.
+BAD_REPORTS = (
+    (None, ("form",)),
+    ([(1, ("at", "a"))], ("form",)),
+    (((1, ("at", "a")), (1, ("at", "a"))), ("item", 1)),
+    (((1, ("then", "a")),), ("item", 0)),
+    (((True, ("at", "a")),), ("item", 0)),
+    (((3, ("at", "a")), (4, ("then", "b")), (5, ("then", "a"))), ("cycle", 2)),
+)
+
 
 def plain_links(tale):
     """For each sentence (first, second, strict), or None if it has no relation."""
@@ -136,6 +146,72 @@ def plain_arrangements(tale):
 
 def plain_group(tale, moment):
     return next(group for group in plain_groups(tale) if moment in group)
+
+
+def plain_forced(tale):
+    """All groups that are isolated or have several moments, ascending."""
+    linked = {group for pair in plain_covers(tale) for group in pair}
+    return [group for group in plain_groups(tale) if len(group) > 1 or group not in linked]
+
+
+def plain_reaches(tale, a, b):
+    """Whether a is before b, or at the same time, by spreading from a over all sentences."""
+    links, reached, fresh = plain_links(tale), {a}, [a]
+    while fresh:
+        here = fresh.pop()
+        for link in links:
+            if link is not None:
+                first, second, strict = link
+                for start, end in ((first, second),) if strict else ((first, second), (second, first)):
+                    if start == here and end not in reached:
+                        reached.add(end)
+                        fresh.append(end)
+    return b in reached
+
+
+def plain_known(tale, a, b):
+    """Whether the relation of the two moments is not "unknown"."""
+    return plain_reaches(tale, a, b) or plain_reaches(tale, b, a)
+
+
+def plain_candidates():
+    """The candidates for fresh names: a, b, .., z, aa, ab and so on."""
+    for length in itertools.count(1):
+        for letters in itertools.product("abcdefghijklmnopqrstuvwxyz", repeat=length):
+            yield "".join(letters)
+
+
+def plain_fresh(sentences, many):
+    """That many fresh names for the sentences."""
+    taken = {moment for _, moment in sentences}
+    free = (name for name in plain_candidates() if name not in taken)
+    return list(itertools.islice(free, many))
+
+
+def plain_jumps(sentences, indices):
+    """The sentences with "at" and a fresh name ahead of each of the indices."""
+    told = list(sentences)
+    for index, name in sorted(zip(indices, plain_fresh(sentences, len(indices))), reverse=True):
+        told.insert(index, ("at", name))
+    return tuple(told)
+
+
+def plain_gaps(report):
+    """The indices in the heard tale of the sentences that stand for the gaps."""
+    numbers = [0] + [number for number, _ in report]
+    gaps = [i for i in range(len(report)) if numbers[i + 1] - numbers[i] > 1]
+    return [gap + k for k, gap in enumerate(gaps)]
+
+
+def plain_heard(report):
+    """The heard tale of a report."""
+    return plain_jumps([sentence for _, sentence in report], [gap - k for k, gap in enumerate(plain_gaps(report))])
+
+
+def cut_report(source, tale):
+    """A report of drawn parts of the tale."""
+    share = source.random()
+    return tuple((number, sentence) for number, sentence in enumerate(tale, 1) if source.random() < share)
 
 
 def plain_fraction(numerator, denominator):
@@ -284,6 +360,13 @@ def assert_quick(case, call, *arguments):
     result = call(*arguments)
     case.assertLess(time.perf_counter() - start, 3.0)
     return result
+
+
+def assert_plain(case, error, call, *arguments):
+    """The call raises exactly this error, which has no field."""
+    with case.assertRaises(error) as caught:
+        call(*arguments)
+    case.assertIs(type(caught.exception), error)
 
 
 def assert_raises(case, error, field, value, call, *arguments):

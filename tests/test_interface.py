@@ -4,10 +4,12 @@ import copy
 import inspect
 import unittest
 
-from backthen import counts, errors, evidence, orders, ranking, tales
-from tests.helper import ANYTHING, BAD_TALES, assert_raises
+from backthen import counts, errors, evidence, orders, ranking, reports, roads, safety, tales
+from tests.helper import ANYTHING, BAD_REPORTS, BAD_TALES, assert_raises
 
 TALE = (("at", "b"), ("with", "a"), ("then", "c"), ("at", "d"))
+
+REPORT = ((2, ("with", "a")), (3, ("then", "c")))
 
 # For each function its arguments, and values for them.
 FUNCTIONS = {
@@ -34,6 +36,20 @@ FUNCTIONS = {
     ranking.nth_timeline: {"tale": TALE, "k": 1},
     ranking.timeline_rank: {"tale": TALE, "timeline": (("a", "b"), ("c",), ("d",))},
     ranking.middle_pair: {"tale": TALE},
+    roads.find_road: {"tale": TALE},
+    roads.check_road: {"tale": TALE, "thing": ("road", (("a", "b"), ["c"]))},
+    roads.straight_tale: {"tale": TALE[:3]},
+    reports.check_report: {"thing": ((2, ("with", ["a"])),)},
+    reports.heard_tale: {"report": REPORT},
+    reports.check_fit: {"report": REPORT, "tale": TALE},
+    reports.gap_stands: {"report": REPORT, "tale": TALE},
+    reports.merge_reports: {"reports": [REPORT, ((1, ("at", "b")),)]},
+    reports.gain: {"reports": [REPORT, ((1, ("at", "b")),)]},
+    safety.dozed_tale: {"tale": TALE, "places": [1, 3]},
+    safety.safety: {"tale": TALE, "a": "a", "b": "c"},
+    safety.explain_safety: {"tale": TALE, "a": "a", "b": "c"},
+    safety.check_safety: {"tale": TALE, "a": "a", "b": "c", "thing": (1, (["hold"],), (1,))},
+    safety.fragile_places: {"tale": TALE},
 }
 FILES = {
     "backthen.tales": ("check_tale", "parse_tale", "format_tale", "stands", "moments"),
@@ -45,6 +61,11 @@ FILES = {
         "count_timelines", "place_counts", "mean_place", "share", "share_terms", "check_share_terms",
     ),
     "backthen.ranking": ("nth_timeline", "timeline_rank", "middle_pair"),
+    "backthen.roads": ("find_road", "check_road", "straight_tale"),
+    "backthen.reports": (
+        "check_report", "heard_tale", "check_fit", "gap_stands", "merge_reports", "gain",
+    ),
+    "backthen.safety": ("dozed_tale", "safety", "explain_safety", "check_safety", "fragile_places"),
 }
 
 
@@ -69,10 +90,12 @@ class InterfaceTests(unittest.TestCase):
                 self.assertEqual(arguments, kept)
                 self.assertEqual(function(**arguments), first)
 
-    def test_returned_lists_are_new(self):
+    def test_returned_lists_and_dicts_are_new(self):
+        kinds = set()
         for function, arguments in FUNCTIONS.items():
             first = function(**arguments)
-            if isinstance(first, list):
+            if isinstance(first, (list, dict)):
+                kinds.add(type(first))
                 with self.subTest(function.__name__):
                     kept = copy.deepcopy(first)
                     for item in first:
@@ -80,6 +103,7 @@ class InterfaceTests(unittest.TestCase):
                             item.append("changed")
                     first.clear()
                     self.assertEqual(function(**arguments), kept)
+        self.assertEqual(kinds, {list, dict})
 
     def test_integers_are_no_bools(self):
         self.assertIs(type(orders.cycle_rank(TALE)), int)
@@ -91,6 +115,12 @@ class InterfaceTests(unittest.TestCase):
             evidence.check_explanation(TALE, "a", "b", ("same", (0,))),
             evidence.check_explanation(TALE, "a", "d", ("unknown", (), ())),
             counts.check_share_terms(TALE, "a", "c", ((None, 1),)),
+            roads.check_road(TALE, ("road", (None,))),
+            roads.check_road(TALE, ("none", (("c",), ("c",), ("c",)))),
+            reports.check_report((None,)),
+            reports.check_report(((2, ("then", "a")), (3, ("then", "a")))),
+            safety.check_safety(TALE, "a", "c", (1, (None,), (1,))),
+            safety.check_safety(TALE, "a", "c", (1, ((("say", 1), ("hold", 1), ("hold", 2), ("say", 2)),), (True,))),
         ):
             self.assertIs(type(problem[1]), int)
 
@@ -100,7 +130,7 @@ class InterfaceTests(unittest.TestCase):
 
     def test_invalid_tale_comes_before_all_other_checks(self):
         for function, arguments in FUNCTIONS.items():
-            if "tale" not in arguments:
+            if "tale" not in arguments or "report" in arguments:
                 continue
             for others in [arguments] + [{name: value for name in arguments} for value in ANYTHING]:
                 for tale, problem in BAD_TALES:
@@ -115,6 +145,17 @@ class InterfaceTests(unittest.TestCase):
                 if "tale" in arguments and problem is not None:
                     values = list({**arguments, "tale": thing}.values())
                     assert_raises(self, errors.InvalidTale, "problem", problem, function, *values)
+
+    def test_invalid_report_comes_before_all_other_checks(self):
+        for function, arguments in FUNCTIONS.items():
+            if "report" not in arguments:
+                continue
+            for tale in [TALE, None] + [tale for tale, _ in BAD_TALES]:
+                for report, problem in BAD_REPORTS:
+                    with self.subTest(function.__name__, report=report):
+                        values = {**arguments, "tale": tale, "report": report}
+                        given = [values[name] for name in arguments]
+                        assert_raises(self, errors.InvalidReport, "problem", problem, function, *given)
 
 
 if __name__ == "__main__":

@@ -7,18 +7,29 @@ import unittest
 
 PACKAGE = pathlib.Path(__file__).resolve().parent.parent / "backthen"
 BUILTINS = set((
-    "len range enumerate zip min max sum abs sorted reversed int str bool bytes list tuple dict set isinstance"
-    " ord repr any all divmod Exception ValueError TypeError KeyError IndexError LookupError"
+    "len range enumerate zip min max sum abs sorted reversed int str bool bytes list tuple dict set frozenset"
+    " isinstance ord repr any all divmod pow iter next map type super getattr hasattr setattr print Exception"
+    " ValueError TypeError KeyError IndexError LookupError ZeroDivisionError ArithmeticError OverflowError"
+    " RuntimeError NotImplementedError AttributeError StopIteration NotImplemented"
+    " property staticmethod classmethod __name__"
 ).split())
 METHODS = set((
     "append clear copy count endswith extend find get index insert isalnum isalpha isdigit islower isspace isupper"
     " items join keys ljust lower lstrip partition pop remove replace reverse rfind rjust rpartition rsplit rstrip"
     " setdefault split splitlines startswith strip update upper values zfill bit_length add discard sort"
+    " title capitalize swapcase casefold center expandtabs removeprefix removesuffix rindex isascii isdecimal"
+    " isnumeric istitle isidentifier isprintable translate maketrans encode decode hex format"
+    " appendleft popleft extendleft rotate from_iterable __init__"
 ).split())
-SPECIAL_METHODS = ("__init__", "__eq__", "__repr__", "__str__", "__len__")
+# The methods that L5 names; all others of this form are barred.
+SPECIAL_METHODS = set((
+    "init eq repr str len enter exit call iter lt le gt ge ne add sub mul floordiv mod pow and or xor lshift rshift"
+    " radd rsub rmul rfloordiv rmod rand ror rxor rlshift rrshift iadd isub imul ifloordiv imod ipow iand ior ixor"
+    " ilshift irshift neg pos invert abs bool contains getitem setitem"
+).split())
 BARRED = (ast.AsyncFunctionDef, ast.AsyncFor, ast.AsyncWith, ast.Await, ast.Div, ast.Import)
-IMPORTED = ("backthen", "heapq", "math", "itertools", "collections")
-MODULE_STATEMENTS = (ast.ImportFrom, ast.FunctionDef, ast.ClassDef, ast.Assign)
+IMPORTED = ("backthen", "heapq", "math", "itertools", "collections", "__future__")
+MODULE_STATEMENTS = (ast.ImportFrom, ast.FunctionDef, ast.ClassDef, ast.Assign, ast.AnnAssign)
 
 
 def files():
@@ -37,14 +48,14 @@ class LanguageTests(unittest.TestCase):
     def test_files_and_characters(self):
         self.assertIn("__init__.py", [path.name for path in files()])
         for path in files():
-            self.assertRegex(path.name, r"^[a-z_]+\.py$")
+            self.assertRegex(path.name, r"^[a-z0-9_]+\.py$")
             self.assertLessEqual(set(path.read_bytes()), {10, *range(32, 127)}, path.name)
 
     def test_sizes(self):
         for path in files():
             lines = path.read_text().splitlines()
             self.assertLessEqual(len(lines), 399, path.name)
-            self.assertLessEqual(max(map(len, lines)), 120, path.name)
+            self.assertLessEqual(max(map(len, lines), default=0), 120, path.name)
         for name, node in nodes(ast.FunctionDef):
             self.assertLessEqual(node.end_lineno - node.lineno + 1, 40, (name, node.name))
 
@@ -56,9 +67,8 @@ class LanguageTests(unittest.TestCase):
 
     def test_module_level(self):
         for name, tree in trees():
-            for node in tree.body[1:]:
+            for node in tree.body[ast.get_docstring(tree) is not None:]:
                 self.assertIsInstance(node, MODULE_STATEMENTS, name)
-            self.assertIsNotNone(ast.get_docstring(tree), name)
 
     def test_barred_syntax(self):
         self.assertEqual([(name, node.lineno) for name, node in nodes(BARRED)], [])
@@ -76,10 +86,12 @@ class LanguageTests(unittest.TestCase):
         for name, node in nodes(ast.arg):
             self.assertNotIn(node.arg, known, (name, node.lineno))
         for name, node in nodes(ast.FunctionDef):
-            self.assertTrue(node.name in SPECIAL_METHODS or not node.name.startswith("__"), (name, node.name))
+            if node.name.startswith("__"):
+                self.assertIn(node.name.strip("_"), SPECIAL_METHODS, (name, node.name))
 
     def test_methods(self):
         own = {node.name for _, node in nodes(ast.FunctionDef)}
+        own |= {node.attr for _, node in nodes(ast.Attribute) if isinstance(node.ctx, ast.Store)}
         for name, node in nodes(ast.Call):
             if isinstance(node.func, ast.Attribute):
                 self.assertIn(node.func.attr, METHODS | own, (name, node.lineno))

@@ -169,6 +169,8 @@ class SafetyTests(unittest.TestCase):
         with self.subTest(tale=tale, a=a, b=b):
             self.assertEqual(safety(tale, a, b), many)
             self.assertEqual(plain_safety(tale, a, b), many)
+            if many:
+                self.assertIsNone(plain_check(tale, a, b, explain_safety(tale, a, b)))
 
     def test_example(self):
         self.safe(TWICE, "a", "b", 2)
@@ -212,6 +214,16 @@ class SafetyTests(unittest.TestCase):
         tale = (("at", "a"), ("with", "b"), ("with", "c"), ("with", "d"), ("at", "c"), ("with", "a"), ("with", "b"))
         for a, b in itertools.combinations("abcd", 2):
             self.safe(tale, a, b, plain_safety(tale, a, b))
+
+    def test_the_shortest_route_may_stand_in_the_way_of_two(self):
+        tale = chain("later", "amxyg") + (("at", "a"), ("then", "m"), ("later", "g"))
+        self.safe(tale, "a", "g", 2)
+        self.safe(tale, "g", "a", 2)
+        self.safe(tale + (("at", "a"), ("later", "g")), "a", "g", 3)
+        back = chain("earlier", "gmxya") + (("at", "g"), ("back", "m"), ("earlier", "a"))
+        self.safe(back, "a", "g", 2)
+        same = chain("with", "amxyg") + (("at", "a"), ("with", "m"), ("at", "m"), ("with", "g"))
+        self.safe(same, "a", "g", 2)
 
     def test_small_tales_against_all_sets_of_places(self):
         found = {}

@@ -82,24 +82,32 @@ def explain_relation(tale, a, b):
     return (word, least_chain(tale, a, b))
 
 
+def chain_problem(links, start, goal):
+    """None if steps by these relations lead from start to goal, one of them strict, otherwise the first problem.
+
+    None in place of a relation stands for a step that there is not.
+    """
+    moment = start
+    for i, link in enumerate(links):
+        moment = link_end(link, moment)
+        if moment is None:
+            return ("step", i)
+    if moment != goal:
+        return ("end",)
+    if not any([strict for _, _, strict in links]):
+        return ("strict",)
+    return None
+
+
 def check_chain(tale, start, goal, thing):
     """None if the steps of thing are a chain of its kind, otherwise the first problem."""
     word, steps = thing
     links = tale_links(tale)
-    moment = start
-    strict = False
-    for i, step in enumerate(steps):
-        if not is_integer(step) or not 0 <= step < len(links):
-            return ("step", i)
-        moment = link_end(links[step], moment)
-        if moment is None or (word == "same" and tale[step][0] != "with"):
-            return ("step", i)
-        strict = strict or tale[step][0] != "with"
-    if moment != goal:
-        return ("end",)
-    if word != "same" and not strict:
-        return ("strict",)
-    return None
+    taken = [links[step] if is_integer(step) and 0 <= step < len(links) else None for step in steps]
+    if word != "same":
+        return chain_problem(taken, start, goal)
+    problem = chain_problem([None if link is None or link[2] else link for link in taken], start, goal)
+    return None if problem == ("strict",) else problem
 
 
 def check_sides(tale, a, b, timelines):

@@ -9,6 +9,7 @@ import random
 import time
 
 WORDS = ("at", "then", "back", "later", "earlier", "with")
+TELLER_NAMES = ("ana", "b", "bo", "cy", "dee", "zz")
 NAMES = ("b", "a", "ab", "z", "aa", "ba", "c")
 
 # Values of every kind of "anything" that are neither tuples, lists nor moments.
@@ -24,6 +25,18 @@ BAD_TALES = (
     ((("then", "a"),), ("sentence", 0)),
     ((("at", "a"), ("then", "B")), ("sentence", 1)),
     ((("at", "a"), ("then", "b"), ("then", "a")), ("cycle", 2)),
+)
+
+# One tuple of tellers for each kind of problem.
+BAD_TELLERS = (
+    (None, ("form",)),
+    ((), ("form",)),
+    ([("ana", ())], ("form",)),
+    ((("ana", ()), ["bo", ()]), ("form",)),
+    ((("ana", ()), ("B", ())), ("name", 1)),
+    ((("ana", ()), ("ana", ())), ("name", 1)),
+    ((("ana", ()), ("bo", [])), ("tale", 1, ("form",))),
+    ((("ana", (("at", "a"), ("then", "a"))), ("bo", None)), ("tale", 0, ("cycle", 1))),
 )
 
 # One report for each kind of problem.
@@ -49,6 +62,17 @@ def plain_links(tale):
         if word in ("at", "then", "back"):
             stand = moment
     return links
+
+
+def plain_steps(tale, moment):
+    """All steps that may be taken from the moment: (index, the moment that it leads to)."""
+    steps = []
+    for index, link in enumerate(plain_links(tale)):
+        if link is not None and link[0] == moment:
+            steps.append((index, link[1]))
+        elif link is not None and not link[2] and link[1] == moment:
+            steps.append((index, link[0]))
+    return steps
 
 
 def plain_closing(tale):
@@ -258,6 +282,27 @@ def drawn_tales(seed, many, longest, names=NAMES):
                 tale += (sentence,)
         tales.append(tale)
     return tales
+
+
+def drawn_tellers(seed, many, longest, names=NAMES):
+    """Drawn tellers, some of them in conflict: each tells a consistent tale over the same names."""
+    source = random.Random(seed)
+    tales = drawn_tales(seed, many * 3, longest, names)
+    tellers = []
+    for _ in range(many):
+        told = sorted(source.sample(TELLER_NAMES, source.randint(1, 4)))
+        tellers.append(tuple((name, source.choice(tales)) for name in told))
+    return tellers
+
+
+def joined(tellers):
+    """All sentences of the tellers."""
+    return tuple(sentence for _, tale in tellers for sentence in tale)
+
+
+def joined_names(tellers):
+    """For each sentence of all tellers (name, index)."""
+    return [(name, index) for name, tale in tellers for index, _ in enumerate(tale)]
 
 
 def drawn_forest(source, many, words=("later", "earlier")):

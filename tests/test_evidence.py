@@ -9,23 +9,12 @@ from backthen.evidence import check_explanation, explain_relation
 from backthen.orders import relation
 from tests.helper import (
     ANYTHING, BAD_TALES, all_tales, assert_raises, drawn_tales, plain_check_timeline, plain_consistent,
-    plain_group, plain_links, plain_moments, plain_relation, plain_timelines,
+    plain_group, plain_links, plain_moments, plain_relation, plain_steps, plain_timelines,
 )
 
 TALE = (("at", "a"), ("then", "b"), ("with", "c"), ("then", "d"))
 LOOSE = (("at", "a"), ("then", "b"), ("at", "c"))
 UNKNOWN = ("unknown", (("a",), ("b",), ("c",)), (("a",), ("c",), ("b",)))
-
-
-def plain_steps(tale, moment):
-    """All steps that may be taken from the moment: (index, the moment that it leads to)."""
-    steps = []
-    for index, link in enumerate(plain_links(tale)):
-        if link is not None and link[0] == moment:
-            steps.append((index, link[1]))
-        elif link is not None and not link[2] and link[1] == moment:
-            steps.append((index, link[0]))
-    return steps
 
 
 def plain_chain(tale, start, goal, words):

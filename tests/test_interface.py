@@ -4,12 +4,16 @@ import copy
 import inspect
 import unittest
 
-from backthen import counts, errors, evidence, orders, ranking, reports, roads, safety, tales
-from tests.helper import ANYTHING, BAD_REPORTS, BAD_TALES, assert_raises
+from backthen import (
+    counts, errors, evidence, orders, ranking, reports, roads, safety, session, settler, short, tales, tellers,
+)
+from tests.helper import ANYTHING, BAD_REPORTS, BAD_TALES, BAD_TELLERS, assert_raises
 
 TALE = (("at", "b"), ("with", "a"), ("then", "c"), ("at", "d"))
 
 REPORT = ((2, ("with", "a")), (3, ("then", "c")))
+TELLERS = (("ana", TALE), ("bo", (("at", "d"), ("then", "a"))))
+TORN = TELLERS + (("cy", (("at", "b"), ("then", "d"))),)
 
 # For each function its arguments, and values for them.
 FUNCTIONS = {
@@ -50,6 +54,17 @@ FUNCTIONS = {
     safety.explain_safety: {"tale": TALE, "a": "a", "b": "c"},
     safety.check_safety: {"tale": TALE, "a": "a", "b": "c", "thing": (1, (["hold"],), (1,))},
     safety.fragile_places: {"tale": TALE},
+    tellers.check_tellers: {"thing": (("ana", ["a"]),)},
+    tellers.join: {"tellers": TELLERS},
+    tellers.conflict: {"tellers": TORN},
+    tellers.check_ring: {"tellers": TORN, "thing": (("ana", 1), ["bo", 1])},
+    tellers.suspects: {"tellers": TORN},
+    tellers.dismissed: {"tellers": TORN},
+    tellers.backers: {"tellers": TORN, "a": "d", "b": "c"},
+    settler.settle: {"tale": TALE, "timeline": (("a", "b"), ("c",), ("d",))},
+    short.shortest_length: {"tale": TALE},
+    short.shortest_tale: {"tale": TALE},
+    short.check_same_order: {"one": TALE, "other": TALE + (("then", "c"),)},
 }
 FILES = {
     "backthen.tales": ("check_tale", "parse_tale", "format_tale", "stands", "moments"),
@@ -66,6 +81,22 @@ FILES = {
         "check_report", "heard_tale", "check_fit", "gap_stands", "merge_reports", "gain",
     ),
     "backthen.safety": ("dozed_tale", "safety", "explain_safety", "check_safety", "fragile_places"),
+    "backthen.tellers": (
+        "check_tellers", "join", "conflict", "check_ring", "suspects", "dismissed", "backers",
+    ),
+    "backthen.settler": ("settle",),
+    "backthen.short": ("shortest_length", "shortest_tale", "check_same_order"),
+}
+# For each class its methods, each with its arguments behind self.
+CLASSES = {
+    settler.Settler: {
+        "question": [], "answer": ["first"], "undo": [], "remaining": [], "answers": [], "tale": [], "result": [],
+        "copy": [], "__eq__": None, "__init__": ["tale"],
+    },
+    session.Session: {
+        "tell": ["teller", "sentence"], "undo": [], "tellers": [], "tale": [], "relation": ["a", "b"],
+        "explain_relation": ["a", "b"], "news": [], "copy": [], "__len__": [], "__eq__": None,
+    },
 }
 
 
@@ -76,6 +107,19 @@ class InterfaceTests(unittest.TestCase):
             self.assertEqual(list(inspect.signature(function).parameters), list(arguments))
             found.setdefault(function.__module__, []).append(function.__name__)
         self.assertEqual({name: tuple(names) for name, names in found.items()}, FILES)
+
+    def test_classes_and_methods(self):
+        self.assertEqual([made.__module__ for made in CLASSES], ["backthen.settler", "backthen.session"])
+        self.assertEqual([made.__name__ for made in CLASSES], ["Settler", "Session"])
+        for made, methods in CLASSES.items():
+            for name, arguments in methods.items():
+                with self.subTest(made.__name__, method=name):
+                    self.assertIn(name, vars(made))
+                    if arguments is not None:
+                        found = list(inspect.signature(vars(made)[name]).parameters)
+                        self.assertEqual(found[1:], arguments)
+        self.assertEqual(list(inspect.signature(settler.Settler).parameters), ["tale"])
+        self.assertEqual(list(inspect.signature(session.Session).parameters), [])
 
     def test_by_position_and_by_name(self):
         for function, arguments in FUNCTIONS.items():
@@ -119,6 +163,9 @@ class InterfaceTests(unittest.TestCase):
             roads.check_road(TALE, ("none", (("c",), ("c",), ("c",)))),
             reports.check_report((None,)),
             reports.check_report(((2, ("then", "a")), (3, ("then", "a")))),
+            tellers.check_tellers((("ana", ()), ("Bo", ()))),
+            tellers.check_tellers((("ana", None),)),
+            tellers.check_ring(TORN, (None,)),
             safety.check_safety(TALE, "a", "c", (1, (None,), (1,))),
             safety.check_safety(TALE, "a", "c", (1, ((("say", 1), ("hold", 1), ("hold", 2), ("say", 2)),), (True,))),
         ):
@@ -156,6 +203,32 @@ class InterfaceTests(unittest.TestCase):
                         values = {**arguments, "tale": tale, "report": report}
                         given = [values[name] for name in arguments]
                         assert_raises(self, errors.InvalidReport, "problem", problem, function, *given)
+
+    def test_invalid_tellers_come_before_all_other_checks(self):
+        for function, arguments in FUNCTIONS.items():
+            if "tellers" not in arguments:
+                continue
+            for others in [arguments] + [{name: value for name in arguments} for value in ANYTHING]:
+                for given, problem in BAD_TELLERS:
+                    with self.subTest(function.__name__, tellers=given):
+                        values = list({**others, "tellers": given}.values())
+                        assert_raises(self, errors.InvalidTellers, "problem", problem, function, *values)
+
+    def test_calls_that_raise_leave_the_objects_as_they_were(self):
+        asked = settler.Settler(TALE)
+        asked.answer(asked.question()[0])
+        told = session.Session()
+        told.tell("ana", ("at", "a"))
+        told.tell("ana", ("then", "b"))
+        for call, values in (
+            (asked.answer, (None,)), (settler.Settler(()).undo, ()), (told.tell, ("ana", ("then", "a"))),
+            (told.tell, (None, ("at", "a"))), (told.tell, ("bo", None)), (told.relation, ("a", None)),
+            (told.explain_relation, ("q", "a")),
+        ):
+            kept = (asked.copy(), asked.answers(), told.copy(), told.news())
+            with self.assertRaises(errors.TaleError):
+                call(*values)
+            self.assertEqual((asked, asked.answers(), told, told.news()), kept)
 
 
 if __name__ == "__main__":
